@@ -1,0 +1,1 @@
+"""Leastblame: which parts must be broken, and what to look at next."""
