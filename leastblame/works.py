@@ -1,7 +1,7 @@
 """Works: wires with a few values each, and parts that bind them while they are sound."""
 
 from leastblame.errors import NoPart, NoWire, NoWork
-from leastblame.ties import is_name, is_tie, plain_tie, whole_within
+from leastblame.ties import is_name, is_tie, placed_tie, plain_tie, whole_within
 
 MOST_WIRES = 8
 MOST_WORLDS = 2048
@@ -67,6 +67,9 @@ class Work:
         self.part_rows = [(name, [plain_tie(tie) for tie in ties]) for name, ties in parts]
         self.wire_places = places
         self.part_places = places_of(parts)
+        manys = [many for name, many in wires]
+        # Ties are asked of many worlds: so they are placed once, here.
+        self.placed_parts = [[placed_tie(tie, places, manys) for tie in ties] for name, ties in self.part_rows]
 
     def wires(self):
         return list(self.wire_rows)

@@ -1,7 +1,7 @@
 """Worlds: which parts are sound in them, and which worlds fit a lot and looks."""
 
 from leastblame.errors import NoLook, NoLot, NoWorld
-from leastblame.ties import all_hold, placed_tie, whole_within
+from leastblame.ties import all_hold, whole_within
 from leastblame.works import check_work
 
 LOOK_WORDS = ("is", "isnt")
@@ -20,7 +20,7 @@ def sound_in(work, world):
     """The lot of the parts that are sound in the world."""
     if not is_world(work, world):
         raise NoWorld()
-    return tuple([number for number in range(len(work)) if all_hold(placed_ties(work, number), world)])
+    return tuple([number for number, ties in enumerate(work.placed_parts) if all_hold(ties, world)])
 
 
 def first_world(work, lot, looks):
@@ -59,6 +59,15 @@ def check_lot(work, lot):
         least = part + 1
 
 
+def is_lot(work, thing):
+    """Whether the thing, of any kind, is a lot of the work."""
+    try:
+        check_lot(work, thing)
+    except NoLot:
+        return False
+    return True
+
+
 def check_looks(work, looks):
     """Refuse with NoLook what are no looks at the work."""
     if not isinstance(looks, list):
@@ -79,25 +88,36 @@ def is_look(thing, manys):
     return word in LOOK_WORDS and wire in manys and whole_within(value, 0, manys[wire] - 1)
 
 
-def placed_ties(work, part):
-    """The ties of the part with that number, as they are asked of worlds."""
-    manys = [many for name, many in work.wire_rows]
-    return [placed_tie(tie, work.wire_places, manys) for tie in work.part_rows[part][1]]
+def within(lot, other):
+    """Whether all parts of the lot are in the other one."""
+    return all([part in other for part in lot])
+
+
+def fits(work, lot, looks, thing):
+    """Whether the thing, of any kind, is a world that has the lot sound and meets the looks."""
+    if not is_world(work, thing) or not within(lot, sound_in(work, thing)):
+        return False
+    return all([value in values for value, values in zip(thing, values_met(work, looks))])
 
 
 def ties_by_last_wire(work, lot):
     """For each wire the placed ties of the lot's parts that name it, and none behind it."""
     grouped = [[] for wire in work.wires()]
     for part in lot:
-        for tie in placed_ties(work, part):
+        for tie in work.placed_parts[part]:
             grouped[max(tie[1])].append(tie)
     return grouped
+
+
+def meets(value, look):
+    """Whether the look's wire meets it by that value."""
+    return (value == look[2]) == (look[0] == "is")
 
 
 def values_met(work, looks):
     """For each wire its values that meet all looks at it."""
     values = [list(range(many)) for name, many in work.wires()]
-    for word, wire, seen in looks:
-        at = work.wire_number(wire)
-        values[at] = [value for value in values[at] if (value == seen) == (word == "is")]
+    for look in looks:
+        at = work.wire_number(look[1])
+        values[at] = [value for value in values[at] if meets(value, look)]
     return values

@@ -129,3 +129,37 @@ def some_works(many, seed=1):
     """So many works, as wires and parts; the same ones at each call."""
     chance = random.Random(seed)
     return [some_work(chance) for _ in range(many)]
+
+
+def some_circuit(chance):
+    """Wires and parts of a work in which each part makes one wire of those ahead of it: most lots can be sound."""
+    names = list("abcdefgh")[:chance.randint(4, 8)]
+    wires = [(name, chance.choice([2, 2, 3]) if len(names) < 7 else 2) for name in names]
+    inputs = chance.randint(max(1, len(names) - 7), 3)
+    parts = []
+    for number in range(inputs, len(names)):
+        word = chance.choice(["same", "turned", "least", "most", "sum", "pick"])
+        many = {"same": 1, "turned": 1, "pick": 3}.get(word, 2)
+        tie = (word, names[number], *(chance.choice(names[:number]) for _ in range(many)))
+        parts.append(("p" + names[number], [tie]))
+    chance.shuffle(parts)
+    return wires, parts
+
+
+def some_looks(chance, wires, most=6):
+    """Right looks at the wires."""
+    looks = []
+    for _ in range(chance.randint(0, most)):
+        name, many = chance.choice(wires)
+        looks.append((chance.choice(["is", "is", "isnt"]), name, chance.randrange(many)))
+    return looks
+
+
+def some_cases(many, seed=1):
+    """So many works with looks, as (wires, parts, looks); the same ones at each call."""
+    chance = random.Random(seed)
+    cases = []
+    for number in range(many):
+        wires, parts = some_work(chance) if number % 3 == 0 else some_circuit(chance)
+        cases.append((wires, parts, some_looks(chance, wires)))
+    return cases

@@ -4,7 +4,11 @@ import copy
 import inspect
 import unittest
 
-from leastblame.errors import NoLook, NoLot, NoText, NoWork, NoWorld
+from leastblame.blames import blame_of, broken, is_blame
+from leastblame.cases import follows, is_tree, refuted
+from leastblame.clashes import clashing, meeting
+from leastblame.errors import NoAim, NoLook, NoLot, NoText, NoWork, NoWorld
+from leastblame.labels import is_label, label_of, label_row, lots_of
 from leastblame.works import Work
 from leastblame.worktexts import read, shown
 from leastblame.worlds import all_worlds, count_worlds, first_world, is_world, sound_in
@@ -16,6 +20,25 @@ def parts_now():
     """Parts, three of which share one list of ties."""
     ties = list(TIES)
     return [("p", ties), ("q", ties), ("r", [("same", "a", "d")]), ("s", ties)]
+
+
+def circuit():
+    """A work with looks that three lots clash with, and an aim that follows by two lots."""
+    work = Work([("a", 2), ("b", 2), ("c", 2), ("d", 2), ("e", 2)], [
+        ("p", [("same", "b", "a")]), ("q", [("same", "c", "b")]), ("r", [("same", "d", "c")]), ("s", [("fixed", "e", 0)]),
+        ("t", [("fixed", "c", 0)])])
+    return work, [("is", "a", 0), ("is", "d", 1), ("is", "e", 1)], ("c", 0)
+
+
+def asked(work, looks, aim):
+    """Each call that tells lots or papers, by its name."""
+    return {
+        "refuted": lambda: refuted(work, (0, 1, 2), looks), "the world": lambda: refuted(work, (0, 1), looks),
+        "follows": lambda: follows(work, (0, 1), looks, aim), "another world": lambda: follows(work, (0,), looks, aim),
+        "clashing": lambda: clashing(work, looks), "meeting": lambda: meeting(work, [(0, 1), (2,)]),
+        "broken": lambda: broken(work, looks), "blame_of": lambda: blame_of(work, looks),
+        "lots_of": lambda: lots_of(work, looks, aim), "label_row": lambda: label_row(work, looks, "c"),
+        "a row of none": lambda: label_row(work, [], "c"), "label_of": lambda: label_of(work, looks, aim)}
 
 
 class HandedIn(unittest.TestCase):
@@ -63,6 +86,53 @@ class HandedIn(unittest.TestCase):
         world.append(0)
         self.assertRaises(NoWorld, sound_in, work, world)
         self.assertEqual(world, before[0] + [0])
+
+    def test_papers_and_lots_leave_looks_as_they_were(self):
+        work, looks, aim = circuit()
+        other, before, _ = circuit()
+        for call in asked(work, looks, aim).values():
+            call()
+            self.assertEqual(looks, before)
+            self.assertEqual((work, repr(work)), (other, repr(other)))
+        lots = [(0, 1), (2,), (0, 1)]
+        meeting(work, lots)
+        self.assertEqual(lots, [(0, 1), (2,), (0, 1)])
+
+    def test_checkers_leave_papers_as_they_were(self):
+        work, looks, aim = circuit()
+        tree, aimed = refuted(work, (0, 1, 2), looks)[1], follows(work, (0, 1), looks, aim)[1]
+        blame, label = blame_of(work, looks), label_of(work, looks, aim)
+        before = copy.deepcopy((looks, tree, aimed, blame, label))
+        self.assertIs(is_tree(work, (0, 1, 2), looks, tree), True)
+        self.assertIs(is_tree(work, (0, 1), looks, aimed, goal=aim), True)
+        self.assertIs(is_tree(work, (0, 1), looks, aimed), False)
+        self.assertIs(is_blame(work, looks, blame), True)
+        self.assertIs(is_blame(work, looks[:2], blame), False)
+        self.assertIs(is_label(work, looks, aim, label), True)
+        self.assertIs(is_label(work, looks, ("c", 1), label), False)
+        self.assertEqual((looks, tree, aimed, blame, label), before)
+
+    def test_refusals_leave_looks_and_lots_as_they_were(self):
+        work, looks, aim = circuit()
+        looks.append(None)
+        before = list(looks)
+        for name, call in asked(work, looks, aim).items():
+            if name not in ("meeting", "a row of none"):
+                self.assertRaises(NoLook, call)
+        self.assertRaises(NoAim, lots_of, work, looks[:3], None)
+        self.assertEqual(looks, before)
+        lots = [(0,), None, (0, 0)]
+        self.assertRaises(NoLot, meeting, work, lots)
+        self.assertEqual(lots, [(0,), None, (0, 0)])
+
+    def test_what_is_handed_in_is_not_kept(self):
+        work, looks, aim = circuit()
+        told = {name: call() for name, call in asked(work, looks, aim).items()}
+        before = copy.deepcopy(told)
+        looks.clear()
+        self.assertEqual(told, before)
+        work, looks, aim = circuit()
+        self.assertEqual({name: call() for name, call in asked(work, looks, aim).items()}, before)
 
     def test_refusals_change_no_work(self):
         work = Work(WIRES, parts_now())
@@ -122,6 +192,26 @@ class ToldOut(unittest.TestCase):
         self.own(lambda: all_worlds(work, (0,), []))
         self.own(lambda: first_world(work, (0,), [("isnt", "b", 0)]))
 
+    def test_lots_and_papers(self):
+        for name, call in asked(*circuit()).items():
+            with self.subTest(name):
+                self.own(call)
+
+    def test_lots_and_papers_all_at_once(self):
+        calls = asked(*circuit())
+        told = {name: call() for name, call in calls.items()}
+        before = copy.deepcopy(told)
+        lists = [one for name in told for one in self.lists_in(told[name])]
+        self.assertEqual(len({id(one) for one in lists}), len(lists))
+        for one in lists:
+            one.clear()
+        self.assertEqual({name: call() for name, call in calls.items()}, before)
+
+    def test_looks_that_cannot_be_met(self):
+        work = circuit()[0]
+        for call in asked(work, [("is", "a", 0), ("is", "a", 1)], ("c", 0)).values():
+            self.own(call)
+
     def test_the_world_told_is_not_one_handed_in(self):
         work = Work([("a", 2)])
         worlds = all_worlds(work, (), [])
@@ -137,9 +227,18 @@ class Handed(unittest.TestCase):
             (Work.wire_number, ["self", "name"]), (Work.part_number, ["self", "name"]),
             (shown, ["work"]), (read, ["text"]), (is_world, ["work", "thing"]), (sound_in, ["work", "world"]),
             (first_world, ["work", "lot", "looks"]), (all_worlds, ["work", "lot", "looks"]),
-            (count_worlds, ["work", "lot", "looks"]),
+            (count_worlds, ["work", "lot", "looks"]), (is_tree, ["work", "lot", "looks", "thing", "goal"]),
+            (refuted, ["work", "lot", "looks"]), (follows, ["work", "lot", "looks", "aim"]),
+            (clashing, ["work", "looks"]), (meeting, ["work", "lots"]), (broken, ["work", "looks"]),
+            (blame_of, ["work", "looks"]), (is_blame, ["work", "looks", "thing"]), (lots_of, ["work", "looks", "aim"]),
+            (label_row, ["work", "looks", "wire"]), (label_of, ["work", "looks", "aim"]),
+            (is_label, ["work", "looks", "aim", "thing"]),
         ]:
             self.assertEqual(list(inspect.signature(call).parameters), names)
+
+    def test_what_is_handed_in_by_its_name_alone(self):
+        goal = inspect.signature(is_tree).parameters["goal"]
+        self.assertEqual((goal.kind, goal.default), (goal.KEYWORD_ONLY, None))
 
     def test_methods_stand_in_the_class_itself(self):
         for name in ("wires", "parts", "wire_number", "part_number", "__len__", "__eq__", "__repr__", "__init__"):
