@@ -8,9 +8,14 @@ GREATEST_VALUE = 3
 WIRES_BEHIND = {"same": 2, "turned": 2, "least": 3, "most": 3, "sum": 3, "pick": 4}
 
 
+def whole_from(thing, low):
+    """Whether the thing, of any kind, is a whole number from low on."""
+    return isinstance(thing, int) and not isinstance(thing, bool) and low <= thing
+
+
 def whole_within(thing, low, high):
     """Whether the thing, of any kind, is a whole number from low to high."""
-    return isinstance(thing, int) and not isinstance(thing, bool) and low <= thing <= high
+    return whole_from(thing, low) and thing <= high
 
 
 def is_name(thing):

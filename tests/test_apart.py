@@ -6,14 +6,18 @@ import unittest
 
 from leastblame.blames import blame_of, broken, is_blame
 from leastblame.cases import follows, is_tree, refuted
+from leastblame.chances import broken_chances, chances
 from leastblame.clashes import clashing, meeting
-from leastblame.errors import NoAim, NoLook, NoLot, NoText, NoWork, NoWorld
+from leastblame.errors import NoAim, NoLook, NoLot, NoNumber, NoText, NoWays, NoWires, NoWork, NoWorld
+from leastblame.foes import foe_of, is_foe
 from leastblame.labels import is_label, label_of, label_row, lots_of
+from leastblame.plans import accounts, is_plan, mean_plan, worst_plan
 from leastblame.works import Work
 from leastblame.worktexts import read, shown
 from leastblame.worlds import all_worlds, count_worlds, first_world, is_world, sound_in
 
 from helpers import TIES, WIRES
+from planning import odd_or_even, row_of, row_ways
 
 
 def parts_now():
@@ -39,6 +43,21 @@ def asked(work, looks, aim):
         "broken": lambda: broken(work, looks), "blame_of": lambda: blame_of(work, looks),
         "lots_of": lambda: lots_of(work, looks, aim), "label_row": lambda: label_row(work, looks, "c"),
         "a row of none": lambda: label_row(work, [], "c"), "label_of": lambda: label_of(work, looks, aim)}
+
+
+def row():
+    """A work with looks, open wires and ways: one of five parts in a row is broken."""
+    wires, parts, looks = row_of(5)
+    return Work(wires, parts), looks, list("bcde"), row_ways([(1, 3), (1, 5), (1, 9), (1, 17), (1, 33)])
+
+
+def planned(work, looks, open_wires, ways):
+    """Each call that tells chances, accounts, plans or a foe, by its name."""
+    return {
+        "chances": lambda: chances(work, ways, looks), "broken_chances": lambda: broken_chances(work, ways, looks),
+        "accounts": lambda: accounts(work, looks), "worst_plan": lambda: worst_plan(work, looks, open_wires),
+        "mean_plan": lambda: mean_plan(work, looks, open_wires),
+        "by ways": lambda: mean_plan(work, looks, open_wires, ways=ways), "foe_of": lambda: foe_of(work, looks, open_wires)}
 
 
 class HandedIn(unittest.TestCase):
@@ -134,6 +153,47 @@ class HandedIn(unittest.TestCase):
         work, looks, aim = circuit()
         self.assertEqual({name: call() for name, call in asked(work, looks, aim).items()}, before)
 
+    def test_plans_and_chances_leave_all_as_it_was(self):
+        work, *handed = row()
+        before = copy.deepcopy(handed)
+        for call in planned(work, *handed).values():
+            call()
+            self.assertEqual(handed, before)
+            self.assertEqual((work, repr(work)), (row()[0], repr(row()[0])))
+        looks, open_wires, ways = handed
+        papers = (worst_plan(work, looks, open_wires)[1], foe_of(work, looks, open_wires))
+        before = copy.deepcopy((handed, papers))
+        for number in (2, 1):
+            self.assertIs(is_foe(work, looks, open_wires, number, papers[1]), number == 2)
+        self.assertIs(is_plan(work, looks, open_wires, papers[0]), True)
+        self.assertIs(is_plan(work, looks, open_wires[1:], papers[0]), False)
+        self.assertEqual((handed, papers), before)
+
+    def test_plans_and_chances_keep_nothing(self):
+        work, *handed = row()
+        told = {name: call() for name, call in planned(work, *handed).items()}
+        before = copy.deepcopy(told)
+        for some in handed[2]:
+            some[0][1].clear()
+            some.clear()
+        for thing in handed:
+            thing.clear()
+        self.assertEqual(told, before)
+        self.assertEqual({name: call() for name, call in planned(work, *row()[1:]).items()}, before)
+
+    def test_refused_plans_and_chances_leave_all_as_it_was(self):
+        work, looks, open_wires, ways = row()
+        bad_looks, bad_open, bad_ways = [*looks, None], [*open_wires, "b"], [*ways[:4], [None]]
+        before = copy.deepcopy((looks, open_wires, ways, bad_looks, bad_open, bad_ways))
+        for call in planned(work, bad_looks, bad_open, ways).values():
+            self.assertRaises(NoLook, call)
+        for name, call in planned(work, looks, bad_open, bad_ways).items():
+            if name != "accounts":
+                self.assertRaises(NoWays if "chances" in name else NoWires, call)
+        self.assertRaises(NoWays, mean_plan, work, looks, open_wires, ways=bad_ways)
+        self.assertRaises(NoNumber, is_foe, work, looks, open_wires, -1, None)
+        self.assertEqual((looks, open_wires, ways, bad_looks, bad_open, bad_ways), before)
+
     def test_refusals_change_no_work(self):
         work = Work(WIRES, parts_now())
         before = (work.wires(), work.parts())
@@ -212,6 +272,30 @@ class ToldOut(unittest.TestCase):
         for call in asked(work, [("is", "a", 0), ("is", "a", 1)], ("c", 0)).values():
             self.own(call)
 
+    def test_plans_and_chances(self):
+        wires, parts = odd_or_even((2, 3, 2))
+        ways = [[((1, 7), []), ((1, 9), [("fixed", "a", 1)])]] * 2
+        for handed in (row(), (Work(wires, parts), [], ["a", "b", "c"], ways)):
+            for name, call in planned(*handed).items():
+                with self.subTest(name):
+                    self.own(call)
+
+    def test_plans_and_chances_all_at_once(self):
+        calls = planned(*row())
+        told = {name: call() for name, call in calls.items()}
+        before = copy.deepcopy(told)
+        lists = [one for name in told for one in self.lists_in(told[name])]
+        self.assertEqual(len({id(one) for one in lists}), len(lists))
+        for one in lists:
+            one.clear()
+        self.assertEqual({name: call() for name, call in calls.items()}, before)
+
+    def test_plans_where_there_are_no_accounts(self):
+        work, looks, open_wires, ways = row()
+        for name, call in planned(work, [*looks, ("is", "a", 1)], open_wires, ways).items():
+            if "chances" not in name and name != "foe_of":
+                self.own(call)
+
     def test_the_world_told_is_not_one_handed_in(self):
         work = Work([("a", 2)])
         worlds = all_worlds(work, (), [])
@@ -232,13 +316,19 @@ class Handed(unittest.TestCase):
             (clashing, ["work", "looks"]), (meeting, ["work", "lots"]), (broken, ["work", "looks"]),
             (blame_of, ["work", "looks"]), (is_blame, ["work", "looks", "thing"]), (lots_of, ["work", "looks", "aim"]),
             (label_row, ["work", "looks", "wire"]), (label_of, ["work", "looks", "aim"]),
-            (is_label, ["work", "looks", "aim", "thing"]),
+            (is_label, ["work", "looks", "aim", "thing"]), (chances, ["work", "ways", "looks"]),
+            (broken_chances, ["work", "ways", "looks"]), (accounts, ["work", "looks"]),
+            (is_plan, ["work", "looks", "open_wires", "thing"]), (worst_plan, ["work", "looks", "open_wires"]),
+            (mean_plan, ["work", "looks", "open_wires", "ways"]), (foe_of, ["work", "looks", "open_wires"]),
+            (is_foe, ["work", "looks", "open_wires", "number", "thing"]),
         ]:
             self.assertEqual(list(inspect.signature(call).parameters), names)
 
     def test_what_is_handed_in_by_its_name_alone(self):
-        goal = inspect.signature(is_tree).parameters["goal"]
-        self.assertEqual((goal.kind, goal.default), (goal.KEYWORD_ONLY, None))
+        alone = {(is_tree, "goal"): None, (mean_plan, "ways"): None}
+        for (call, name), default in alone.items():
+            told = inspect.signature(call).parameters[name]
+            self.assertEqual((told.kind, told.default), (told.KEYWORD_ONLY, default))
 
     def test_methods_stand_in_the_class_itself(self):
         for name in ("wires", "parts", "wire_number", "part_number", "__len__", "__eq__", "__repr__", "__init__"):
