@@ -71,6 +71,15 @@ def plain_tie(tie):
     return tuple(tie)
 
 
+def renamed_tie(tie, names):
+    """The tie with each of its wires called as the dict tells."""
+    if tie[0] == "rows":
+        return ("rows", tuple([names[name] for name in tie[1]]), tie[2])
+    if tie[0] == "fixed":
+        return ("fixed", names[tie[1]], tie[2])
+    return tuple([tie[0]] + [names[name] for name in tie[1:]])
+
+
 def placed_tie(tie, places, manys):
     """The tie as (word, numbers of its wires, what else its word needs).
 

@@ -50,11 +50,16 @@ def all_worlds(work, lot, looks):
 
 def check_lot(work, lot):
     """Refuse with NoLot what is no lot of the work."""
+    check_numbers(lot, len(work))
+
+
+def check_numbers(lot, many):
+    """Refuse with NoLot what is no lot of so many parts."""
     if not isinstance(lot, tuple):
         raise NoLot(None)
     least = 0
     for number, part in enumerate(lot):
-        if not whole_within(part, least, len(work) - 1):
+        if not whole_within(part, least, many - 1):
             raise NoLot(number)
         least = part + 1
 

@@ -4,6 +4,8 @@ import copy
 import inspect
 import unittest
 
+from leastblame.beats import beat_looks, beat_worlds, over_beats
+from leastblame.bench import Bench
 from leastblame.blames import blame_of, broken, is_blame
 from leastblame.cases import follows, is_tree, refuted
 from leastblame.chances import broken_chances, chances
@@ -11,7 +13,9 @@ from leastblame.clashes import clashing, meeting
 from leastblame.errors import NoAim, NoLook, NoLot, NoNumber, NoText, NoWays, NoWires, NoWork, NoWorld
 from leastblame.foes import foe_of, is_foe
 from leastblame.labels import is_label, label_of, label_row, lots_of
+from leastblame.naming import called, led_looks, led_lot
 from leastblame.plans import accounts, is_plan, mean_plan, worst_plan
+from leastblame.stages import closed, lot_closed, lot_opened
 from leastblame.works import Work
 from leastblame.worktexts import read, shown
 from leastblame.worlds import all_worlds, count_worlds, first_world, is_world, sound_in
@@ -296,6 +300,43 @@ class ToldOut(unittest.TestCase):
             if "chances" not in name and name != "foe_of":
                 self.own(call)
 
+    def test_works_closed_over_beats_and_called_otherwise(self):
+        work, looks, _ = circuit()
+        small = Work([("a", 2), ("b", 2)], [("p", [("same", "b", "a")]), ("q", [("fixed", "a", 0)])])
+        for make in (lambda: closed(work, [("x", (0, 1)), ("y", (2,))], seen=["a", "e"]), lambda: closed(work, []),
+                     lambda: over_beats(small, [(0, "a", "b", 0)], beats=3), lambda: called(work),
+                     lambda: called(work, order=[4, 3, 2, 1, 0])):
+            self.own(lambda: (make().wires(), make().parts()))
+            made = make()
+            made.wires().clear()
+            made.parts()[0][1].clear()
+            self.assertEqual(made, make())
+        self.own(lambda: beat_looks(work, looks, beat=1))
+        self.own(lambda: led_looks(work, looks, wires=list("edcba")))
+        self.own(lambda: led_looks(work, looks))
+        self.own(lambda: beat_worlds(small, [0, 0, 1, 1, 0, 1]))
+        world, worlds = [0, 0, 1, 1], []
+        worlds.extend(beat_worlds(small, world))
+        worlds[0][0] = worlds[1][0] = 9
+        self.assertEqual(world, [0, 0, 1, 1])
+        world = [0, 1]
+        beat_worlds(small, world)[0].clear()
+        self.assertEqual(world, [0, 1])
+        self.assertEqual((work, looks), circuit()[:2])
+
+    def test_benches(self):
+        work, looks, _ = circuit()
+        bench = Bench(work)
+        for look in looks:
+            bench.see(*look)
+        bench.suppose([], "broken")
+        for tell in (bench.looks, bench.clashing, bench.broken, bench.log, lambda: bench.lots("c"),
+                     lambda: bench.twin().looks(), lambda: bench.twin().log(), lambda: bench.work().parts()):
+            self.own(tell)
+        for question in ("clashing", "broken"):
+            self.own(lambda: bench.suppose(looks[:1], question))
+        self.assertEqual((bench.looks(), bench.work()), (looks, work))
+
     def test_the_world_told_is_not_one_handed_in(self):
         work = Work([("a", 2)])
         worlds = all_worlds(work, (), [])
@@ -321,11 +362,23 @@ class Handed(unittest.TestCase):
             (is_plan, ["work", "looks", "open_wires", "thing"]), (worst_plan, ["work", "looks", "open_wires"]),
             (mean_plan, ["work", "looks", "open_wires", "ways"]), (foe_of, ["work", "looks", "open_wires"]),
             (is_foe, ["work", "looks", "open_wires", "number", "thing"]),
+            (closed, ["work", "stages", "seen"]), (lot_closed, ["work", "stages", "lot"]),
+            (lot_opened, ["work", "stages", "lot"]), (over_beats, ["work", "delays", "beats"]),
+            (beat_looks, ["work", "looks", "beat"]), (beat_worlds, ["work", "world"]),
+            (called, ["work", "wires", "parts", "order"]), (led_lot, ["work", "lot", "order"]),
+            (led_looks, ["work", "looks", "wires"]), (Bench, ["work"]), (Bench.see, ["self", "word", "wire", "value"]),
+            (Bench.take, ["self", "number"]), (Bench.exchange, ["self", "part", "ties"]), (Bench.back, ["self"]),
+            (Bench.work, ["self"]), (Bench.looks, ["self"]), (Bench.clashing, ["self"]), (Bench.broken, ["self"]),
+            (Bench.lots, ["self", "wire"]), (Bench.next_look, ["self", "open_wires"]),
+            (Bench.suppose, ["self", "looks", "question", "open_wires"]), (Bench.log, ["self"]), (Bench.twin, ["self"]),
         ]:
             self.assertEqual(list(inspect.signature(call).parameters), names)
 
     def test_what_is_handed_in_by_its_name_alone(self):
-        alone = {(is_tree, "goal"): None, (mean_plan, "ways"): None}
+        alone = {
+            (is_tree, "goal"): None, (mean_plan, "ways"): None, (closed, "seen"): (), (over_beats, "beats"): 2,
+            (beat_looks, "beat"): inspect.Parameter.empty, (Bench.suppose, "open_wires"): (), (called, "wires"): None,
+            (called, "parts"): None, (called, "order"): None, (led_lot, "order"): None, (led_looks, "wires"): None}
         for (call, name), default in alone.items():
             told = inspect.signature(call).parameters[name]
             self.assertEqual((told.kind, told.default), (told.KEYWORD_ONLY, default))
