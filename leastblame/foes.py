@@ -2,7 +2,7 @@
 
 from leastblame.cases import with_value
 from leastblame.errors import NoNumber
-from leastblame.plans import Search, accounts, check_asked, parted, values_at
+from leastblame.plans import Search, accounts, check_asked, parted, values_at, without
 from leastblame.ties import whole_from
 from leastblame.worlds import is_lot, is_world
 
@@ -32,11 +32,6 @@ def numbered(work, open_wires):
     return [(name, work.wire_number(name)) for name in open_wires]
 
 
-def but_for(wires, wire):
-    """The wires but for this one."""
-    return [other for other in wires if other != wire]
-
-
 def foe_told(search, wires, rows, looked, number):
     """A foe for the number, which is less than the least worst of the accounts; the wires are those left."""
     if number == 0:
@@ -50,7 +45,7 @@ def answer_told(search, wires, rows, looked, number, wire):
     name, at = wire
     groups = [(value, some, with_value(looked, at, value)) for value, some in parted(rows, at)]
     value, some, longer = [group for group in groups if search.least(group[1], group[2])[0] >= number][0]
-    return (name, value, foe_told(search, but_for(wires, wire), some, longer, number - 1))
+    return (name, value, foe_told(search, without(wires, wire), some, longer, number - 1))
 
 
 def unlike_pair(rows, wires):
@@ -114,4 +109,4 @@ def answer_stands(work, wires, rows, number, wire, thing):
     if not whole_from(thing[1], 0):
         return False
     some = [row for row in rows if row[1][wire[1]] == thing[1]]
-    return foe_stands(work, but_for(wires, wire), some, number - 1, thing[2])
+    return foe_stands(work, without(wires, wire), some, number - 1, thing[2])

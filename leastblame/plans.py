@@ -101,9 +101,9 @@ def lots_once(rows):
     return list({row[0]: True for row in rows})
 
 
-def without(numbers, number):
-    """The numbers but for this one."""
-    return [other for other in numbers if other != number]
+def without(wires, wire):
+    """The wires but for this one."""
+    return [other for other in wires if other != wire]
 
 
 def plan_stands(work, numbers, rows, thing):

@@ -70,6 +70,16 @@ def fields_of(error):
     return dict(vars(error))
 
 
+class Refusing:
+    """For a TestCase: what is refused, with the refusal's class and each of its fields."""
+
+    def refused_so(self, error, fields, call, *handed, **named):
+        with self.assertRaises(error) as caught:
+            call(*handed, **named)
+        self.assertIs(caught.exception.__class__, error)
+        self.assertEqual(fields_of(caught.exception), fields)
+
+
 def holds(tie, seen, manys):
     """Whether the tie holds, the wires' values and manys told by names: written apart from the package."""
     word, rest = tie[0], tie[1:]

@@ -261,15 +261,15 @@ class ToldOut(unittest.TestCase):
             with self.subTest(name):
                 self.own(call)
 
-    def test_lots_and_papers_all_at_once(self):
-        calls = asked(*circuit())
-        told = {name: call() for name, call in calls.items()}
-        before = copy.deepcopy(told)
-        lists = [one for name in told for one in self.lists_in(told[name])]
-        self.assertEqual(len({id(one) for one in lists}), len(lists))
-        for one in lists:
-            one.clear()
-        self.assertEqual({name: call() for name, call in calls.items()}, before)
+    def test_all_at_once(self):
+        for calls in (asked(*circuit()), planned(*row())):
+            told = {name: call() for name, call in calls.items()}
+            before = copy.deepcopy(told)
+            lists = [one for name in told for one in self.lists_in(told[name])]
+            self.assertEqual(len({id(one) for one in lists}), len(lists))
+            for one in lists:
+                one.clear()
+            self.assertEqual({name: call() for name, call in calls.items()}, before)
 
     def test_looks_that_cannot_be_met(self):
         work = circuit()[0]
@@ -283,16 +283,6 @@ class ToldOut(unittest.TestCase):
             for name, call in planned(*handed).items():
                 with self.subTest(name):
                     self.own(call)
-
-    def test_plans_and_chances_all_at_once(self):
-        calls = planned(*row())
-        told = {name: call() for name, call in calls.items()}
-        before = copy.deepcopy(told)
-        lists = [one for name in told for one in self.lists_in(told[name])]
-        self.assertEqual(len({id(one) for one in lists}), len(lists))
-        for one in lists:
-            one.clear()
-        self.assertEqual({name: call() for name, call in calls.items()}, before)
 
     def test_plans_where_there_are_no_accounts(self):
         work, looks, open_wires, ways = row()

@@ -13,7 +13,7 @@ from leastblame.labels import lots_of
 from leastblame.works import Work
 from leastblame.worlds import all_worlds, sound_in
 
-from helpers import TIES, fields_of, odd_things, some_looks, some_tie, sound_slowly, worlds_slowly
+from helpers import TIES, Refusing, odd_things, some_looks, some_tie, sound_slowly, worlds_slowly
 from papers import least_slowly, lots_slowly, met_slowly
 
 # A part that turns what it kept, and one that keeps it for a beat.
@@ -176,19 +176,13 @@ class AllBeatsTogether(unittest.TestCase):
 SIX = Work([("a", 2), ("abcdef", 2)], [("p", [("same", "a", "abcdef")])])
 
 
-class Refused(unittest.TestCase):
-    def refused(self, error, fields, call, *handed, **named):
-        with self.assertRaises(error) as caught:
-            call(*handed, **named)
-        self.assertIs(caught.exception.__class__, error)
-        self.assertEqual(fields_of(caught.exception), fields)
-
+class Refused(Refusing, unittest.TestCase):
     def test_no_work(self):
         fields = {"part": "work", "number": None, "tie": None}
         for thing in odd_things() + [WORK.wires(), Work, (WORK,)]:
-            self.refused(NoWork, fields, over_beats, thing, None, beats=None)
-            self.refused(NoWork, fields, beat_looks, thing, None, beat=None)
-            self.refused(NoWork, fields, beat_worlds, thing, None)
+            self.refused_so(NoWork, fields, over_beats, thing, None, beats=None)
+            self.refused_so(NoWork, fields, beat_looks, thing, None, beat=None)
+            self.refused_so(NoWork, fields, beat_worlds, thing, None)
 
     def test_no_delays(self):
         wrong = [None, (), (0, "x", "y"), (0, "x", "y", 0, 0), [0, "x", "y", 0], (2, "x", "y", 0), (-1, "x", "y", 0),
@@ -198,66 +192,66 @@ class Refused(unittest.TestCase):
         for thing in odd_things() + wrong:
             for beats in (2, None):
                 if thing.__class__ is not list:
-                    self.refused(NoBeats, {"which": "delays"}, over_beats, WORK, thing, beats=beats)
-                self.refused(NoBeats, {"which": "delays"}, over_beats, WORK, [thing], beats=beats)
-                self.refused(NoBeats, {"which": "delays"}, over_beats, WORK, DELAYS + [thing], beats=beats)
+                    self.refused_so(NoBeats, {"which": "delays"}, over_beats, WORK, thing, beats=beats)
+                self.refused_so(NoBeats, {"which": "delays"}, over_beats, WORK, [thing], beats=beats)
+                self.refused_so(NoBeats, {"which": "delays"}, over_beats, WORK, DELAYS + [thing], beats=beats)
         for thing in odd_things():
             for at, delay in enumerate([(thing, "x", "y", 0), (0, thing, "y", 0), (0, "x", thing, 0), (0, "x", "y", thing)]):
                 if at < 3 or thing is not None:
-                    self.refused(NoBeats, {"which": "delays"}, over_beats, WORK, [delay])
+                    self.refused_so(NoBeats, {"which": "delays"}, over_beats, WORK, [delay])
         self.assertEqual(over_beats(WORK, [(0, "y", "x", 2)]).parts()[0][1][2:], [("fixed", "ya", 2), ("same", "yb", "xa")])
-        self.refused(NoBeats, {"which": "delays"}, over_beats, Work([("a", 2)]), [(0, "a", "a", 0)])
+        self.refused_so(NoBeats, {"which": "delays"}, over_beats, Work([("a", 2)]), [(0, "a", "a", 0)])
 
     def test_no_beats(self):
         for thing in odd_things() + [0, 4, -1, "2", [2], (2,), 2.0, True]:
             # Ahead of names, and of what would be no work.
             for work in (WORK, SIX, Work([(name, 2) for name in "abcdefgh"])):
-                self.refused(NoBeats, {"which": "beats"}, over_beats, work, [], beats=thing)
+                self.refused_so(NoBeats, {"which": "beats"}, over_beats, work, [], beats=thing)
 
     def test_a_name_of_six_letters(self):
         for beats in (1, 2, 3):
-            self.refused(NoBeats, {"which": "names"}, over_beats, SIX, [], beats=beats)
+            self.refused_so(NoBeats, {"which": "names"}, over_beats, SIX, [], beats=beats)
         wide = Work([(name, 2) for name in "abcdefg"] + [("abcdef", 2)])
-        self.refused(NoBeats, {"which": "names"}, over_beats, wide, [])
-        self.refused(NoBeats, {"which": "delays"}, over_beats, SIX, None)
+        self.refused_so(NoBeats, {"which": "names"}, over_beats, wide, [])
+        self.refused_so(NoBeats, {"which": "delays"}, over_beats, SIX, None)
 
     def test_what_would_be_no_work(self):
         wires = {"part": "wires", "number": None, "tie": None}
-        self.refused(NoWork, wires, over_beats, Work([(name, 2) for name in "abcde"]), [])
-        self.refused(NoWork, wires, over_beats, Work([(name, 2) for name in "abc"]), [], beats=3)
-        self.refused(NoWork, wires, over_beats, Work([("a", 4), ("b", 4), ("c", 3)]), [])
-        self.refused(NoWork, wires, over_beats, Work([("a", 4), ("b", 4)]), [], beats=3)
+        self.refused_so(NoWork, wires, over_beats, Work([(name, 2) for name in "abcde"]), [])
+        self.refused_so(NoWork, wires, over_beats, Work([(name, 2) for name in "abc"]), [], beats=3)
+        self.refused_so(NoWork, wires, over_beats, Work([("a", 4), ("b", 4), ("c", 3)]), [])
+        self.refused_so(NoWork, wires, over_beats, Work([("a", 4), ("b", 4)]), [], beats=3)
         ties = [("p", [("same", "a", "a")]), ("q", [("same", "a", "a")] * 12)]
         many = {"part": "parts", "number": 1, "tie": None}
-        self.refused(NoWork, many, over_beats, Work([("a", 2)], ties), [(1, "a", "a", None)])
-        self.refused(NoWork, many, over_beats, Work([("a", 2)], ties), [], beats=3)
+        self.refused_so(NoWork, many, over_beats, Work([("a", 2)], ties), [(1, "a", "a", None)])
+        self.refused_so(NoWork, many, over_beats, Work([("a", 2)], ties), [], beats=3)
         self.assertEqual(len(over_beats(Work([("a", 2)], ties), [(1, "a", "a", None)], beats=1).parts()[1][1]), 12)
 
     def test_looks(self):
         for thing in odd_things() + [(), "x"]:
             for beat in (0, None):
                 if thing.__class__ is not list:
-                    self.refused(NoLook, {"number": None}, beat_looks, WORK, thing, beat=beat)
-                self.refused(NoLook, {"number": 1}, beat_looks, WORK, [("is", "x", 1), thing], beat=beat)
+                    self.refused_so(NoLook, {"number": None}, beat_looks, WORK, thing, beat=beat)
+                self.refused_so(NoLook, {"number": 1}, beat_looks, WORK, [("is", "x", 1), thing], beat=beat)
         for look in [("is", "xa", 0), ("is", "x", 2), ("was", "x", 0), ("is", "turn", 0)]:
-            self.refused(NoLook, {"number": 0}, beat_looks, WORK, [look], beat=0)
-        self.refused(NoLook, {"number": 0}, beat_looks, SIX, [None], beat=None)
+            self.refused_so(NoLook, {"number": 0}, beat_looks, WORK, [look], beat=0)
+        self.refused_so(NoLook, {"number": 0}, beat_looks, SIX, [None], beat=None)
 
     def test_beats_of_looks(self):
         for thing in odd_things() + [3, -1, "0", [0], (0,), 0.0, True, False]:
             for work in (WORK, SIX):
-                self.refused(NoBeats, {"which": "beats"}, beat_looks, work, [], beat=thing)
+                self.refused_so(NoBeats, {"which": "beats"}, beat_looks, work, [], beat=thing)
         for beat in range(3):
-            self.refused(NoBeats, {"which": "names"}, beat_looks, SIX, [("is", "a", 1)], beat=beat)
+            self.refused_so(NoBeats, {"which": "names"}, beat_looks, SIX, [("is", "a", 1)], beat=beat)
 
     def test_worlds(self):
         wrong = [[], [0], [0, 0, 0], [0] * 5, [0] * 7, [0] * 8, (0, 0), [2, 0], [0, 3], [0, 0, 2, 0], [0, 0, 0, 0, 0, 3], [0, -1],
                  [0, True], [0, 0.0], [0, "0"], [[0, 0]], [[0, 0], [0, 0]], {0: 0, 1: 0}, "00", b"\x00\x00", range(2)]
         for thing in odd_things() + wrong:
-            self.refused(NoWorld, {}, beat_worlds, WORK, thing)
+            self.refused_so(NoWorld, {}, beat_worlds, WORK, thing)
         for thing in odd_things():
-            self.refused(NoWorld, {}, beat_worlds, WORK, [thing, 0])
-            self.refused(NoWorld, {}, beat_worlds, WORK, [0, 0, 1, thing])
+            self.refused_so(NoWorld, {}, beat_worlds, WORK, [thing, 0])
+            self.refused_so(NoWorld, {}, beat_worlds, WORK, [0, 0, 1, thing])
 
     def test_what_is_handed_in_stays_as_it_was(self):
         delays, looks, world = list(DELAYS), [("is", "x", 1)], [0, 1, 1, 2]

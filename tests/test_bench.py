@@ -12,7 +12,7 @@ from leastblame.labels import label_row
 from leastblame.plans import worst_plan
 from leastblame.works import Work
 
-from helpers import fields_of, odd_things, some_looks, some_tie
+from helpers import Refusing, fields_of, odd_things, some_looks, some_tie
 from planning import ROW, ROW_PARTS, ROW_SEEN, ROW_WIRES, WRONG_OPEN, row_of, some_faults
 
 SAME = [("same", "b", "a")]
@@ -222,7 +222,7 @@ class Told(unittest.TestCase):
             self.assertEqual(seen(looks, Work(wires, parts)).next_look(names), plan[1] if plan[0] == "look" else None)
 
 
-class Supposed(unittest.TestCase):
+class Supposed(Refusing, unittest.TestCase):
     def test_by_hand(self):
         bench = seen(ROW_SEEN)
         before = state(bench)
@@ -259,10 +259,7 @@ class Supposed(unittest.TestCase):
         bench = seen(ROW_SEEN)
         bench.suppose([], "broken")
         before = state(bench)
-        with self.assertRaises(error) as caught:
-            bench.suppose(looks, question, **named)
-        self.assertIs(caught.exception.__class__, error)
-        self.assertEqual(fields_of(caught.exception), fields)
+        self.refused_so(error, fields, bench.suppose, looks, question, **named)
         self.assertEqual((state(bench), bench.log()), (before, ["begin", "end"] * 2))
         bench.back()
         self.assertEqual(bench.looks(), ROW_SEEN[:1])
@@ -295,14 +292,11 @@ class Supposed(unittest.TestCase):
         self.assertRaises(TypeError, Bench(ROW).suppose, [], "next", ["b"])
 
 
-class Refused(unittest.TestCase):
+class Refused(Refusing, unittest.TestCase):
     def refused(self, bench, error, fields, call):
         """It is refused so, and nothing has changed."""
         before = (state(bench), bench.log())
-        with self.assertRaises(error) as caught:
-            call()
-        self.assertIs(caught.exception.__class__, error)
-        self.assertEqual(fields_of(caught.exception), fields)
+        self.refused_so(error, fields, call)
         self.assertEqual((state(bench), bench.log()), before)
 
     def test_no_work(self):

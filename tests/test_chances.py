@@ -9,7 +9,7 @@ from leastblame.chances import broken_chances, chances
 from leastblame.errors import NoLook, NoWays, NoWork, NoWorlds, TooMany
 from leastblame.works import Work
 
-from helpers import TIES, WIRES, fields_of, odd_things, some_cases
+from helpers import TIES, WIRES, Refusing, fields_of, odd_things, some_cases
 from planning import chances_slowly, is_told_fraction, row_of, row_ways, some_ways, told_fraction
 
 INVERTER = Work([("a", 2), ("b", 2)], [("inv", [("turned", "b", "a")])])
@@ -156,7 +156,8 @@ def wrong_parts():
     """What is not what a part's ways are, by the wires a and b."""
     way = ((1, 3), [])
     wrong = odd_things()
-    wrong += [way, (way,), [way] * 4, [((1, 4), [])] * 4, [((1, 2), [])] * 2, [way] * 3, [((1, 1), [])], [((3, 2), [])]]
+    wrong += [way, (way,), [way] * 4, [((1, 8), [])] * 4, [((1, 4), [])] * 4]
+    wrong += [[((1, 2), [])] * 2, [way] * 3, [((1, 1), [])], [((3, 2), [])]]
     wrong += [[((0, 1), [])], [((2, 4), [])], [((-1, 3), [])], [((1, 0), [])], [((1, -3), [])], [((True, 3), [])],
               [((1, 3, 5), [])], [((1,), [])], [([1, 3], [])], [(0.25, [])], [((1.0, 3), [])], [((1, 3.0), [])]]
     wrong += [[(share, [])] for share in odd_things()] + [[((thing, 3), [])] for thing in odd_things()]
@@ -168,13 +169,10 @@ def wrong_parts():
     return wrong
 
 
-class Refused(unittest.TestCase):
+class Refused(Refusing, unittest.TestCase):
     def refused(self, error, fields, *handed):
         for call in (chances, broken_chances):
-            with self.assertRaises(error) as caught:
-                call(*handed)
-            self.assertIs(caught.exception.__class__, error)
-            self.assertEqual(fields_of(caught.exception), fields)
+            self.refused_so(error, fields, call, *handed)
 
     def test_no_work(self):
         for thing in odd_things() + [INVERTER.wires(), Work, repr(INVERTER), (INVERTER,)]:

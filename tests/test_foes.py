@@ -10,7 +10,7 @@ from leastblame.foes import foe_of, is_foe
 from leastblame.plans import worst_plan
 from leastblame.works import Work
 
-from helpers import WIRES, fields_of, odd_things, some_cases
+from helpers import WIRES, Refusing, fields_of, odd_things, some_cases
 from papers import bent
 from planning import FOUR, ROW, ROW_PARTS, ROW_SEEN, ROW_WIRES, UNMET, WRONG_OPEN
 from planning import Asked, odd_or_even, row_of, some_faults
@@ -183,7 +183,7 @@ class IsFoe(unittest.TestCase):
 
     def test_things_of_every_other_kind(self):
         b, c = FOE[1]
-        for thing in odd_things() + [list(FOE), FOE[:1], FOE + (0,), (FOE,), ROW, "Foe", "pairs", ("foe",), ("pair",)]:
+        for thing in odd_things() + [(), [], list(FOE), FOE[:1], FOE + (0,), (FOE,), ROW, "Foe", "pairs", ("foe",), ("pair",)]:
             for bad in [thing, (thing, FOE[1]), ("foe", thing), ("foe", [thing, c]), ("foe", [b, thing]),
                         ("foe", [(thing, *b[1:]), c]), ("foe", [("b", thing, b[2]), c]), ("foe", [("b", 0, thing), c]),
                         ("foe", [("b", 0, (thing, SECOND, THIRD)), c]), ("foe", [("b", 0, ("pair", thing, THIRD)), c]),
@@ -234,14 +234,11 @@ class IsFoe(unittest.TestCase):
             self.assertEqual((looks, open_wires, foe), before)
 
 
-class Refused(unittest.TestCase):
+class Refused(Refusing, unittest.TestCase):
     def refused(self, error, fields, looks, open_wires, work=ROW):
         for call in (lambda: foe_of(work, looks, open_wires), lambda: is_foe(work, looks, open_wires, 0, FOE),
                      lambda: is_foe(work, looks, open_wires, None, None)):
-            with self.assertRaises(error) as caught:
-                call()
-            self.assertIs(caught.exception.__class__, error)
-            self.assertEqual(fields_of(caught.exception), fields)
+            self.refused_so(error, fields, call)
 
     def test_no_work(self):
         for thing in odd_things() + [ROW_WIRES, Work, repr(ROW), (ROW,)]:

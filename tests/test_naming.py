@@ -9,7 +9,7 @@ from leastblame.naming import called, led_looks, led_lot
 from leastblame.works import Work
 from leastblame.worlds import all_worlds, sound_in
 
-from helpers import TIES, WIRES, fields_of, odd_things, some_cases
+from helpers import TIES, WIRES, Refusing, odd_things, some_cases
 
 WORK = Work([("a", 2), ("b", 3), ("c", 2)], [
     ("p", [("fixed", "a", 1), ("rows", ("b", "a"), ((0, 1), (2, 0)))]), ("q", [("pick", "c", "a", "b", "a")]),
@@ -96,66 +96,61 @@ class Called(unittest.TestCase):
                 self.assertEqual(other.parts()[order[p] if order else p][0], parts_called[p] if parts_called else name)
 
 
-WRONG_WIRES = [[], ["x", "y"], ["x", "y", "z", "w"], ["x", "y", "x"], ("x", "y", "z"), ["x", "y", "Z"], ["x", "y", ""],
+WRONG_WIRES = [[], ["x", "y", "z", "z"],
+               ["x", "y"], ["x", "y", "z", "w"], ["x", "y", "x"], ("x", "y", "z"), ["x", "y", "Z"], ["x", "y", ""],
                ["x", "y", "sevenle"], ["x", "y", None], ["x", "y", 0], ["x", "y", ["z"]], "xyz", {"x": 0, "y": 1, "z": 2},
                ["x", "y", "z z"], ["x", "y", b"z"]]
 WRONG_ORDERS = [[], [0, 1], [0, 1, 2, 3], [0, 1, 1], [0, 1, 3], [1, 2, 3], [0, 1, -1], [0, True, 2], [0, 1.0, 2], (0, 1, 2),
                 [0, 1, "2"], [0, 1, None], [0, 1, [2]], "012", {0: 0, 1: 1, 2: 2}, range(3), [0, 0, 1, 2]]
 
 
-class Refused(unittest.TestCase):
-    def refused(self, error, fields, call, *handed, **named):
-        with self.assertRaises(error) as caught:
-            call(*handed, **named)
-        self.assertIs(caught.exception.__class__, error)
-        self.assertEqual(fields_of(caught.exception), fields)
-
+class Refused(Refusing, unittest.TestCase):
     def test_no_work(self):
         fields = {"part": "work", "number": None, "tie": None}
         for thing in odd_things() + [WORK.wires(), Work, (WORK,)]:
-            self.refused(NoWork, fields, called, thing, wires=0, parts=0, order=0)
-            self.refused(NoWork, fields, led_lot, thing, None, order=0)
-            self.refused(NoWork, fields, led_looks, thing, None, wires=0)
+            self.refused_so(NoWork, fields, called, thing, wires=0, parts=0, order=0)
+            self.refused_so(NoWork, fields, led_lot, thing, None, order=0)
+            self.refused_so(NoWork, fields, led_looks, thing, None, wires=0)
 
     def test_no_names(self):
         for thing in odd_things() + WRONG_WIRES:
             if thing is None:
                 continue
-            self.refused(NoNames, {"which": "wires"}, called, WORK, wires=thing, parts=thing, order=0)
-            self.refused(NoNames, {"which": "wires"}, called, WORK, wires=thing)
-            self.refused(NoNames, {"which": "parts"}, called, WORK, parts=thing, order=0)
-            self.refused(NoNames, {"which": "parts"}, called, WORK, parts=thing, wires=["x", "y", "z"], order=[0, 1, 2])
-            self.refused(NoNames, {"which": "wires"}, led_looks, WORK, LOOKS, wires=thing)
-            self.refused(NoNames, {"which": "wires"}, led_looks, WORK, [], wires=thing)
+            self.refused_so(NoNames, {"which": "wires"}, called, WORK, wires=thing, parts=thing, order=0)
+            self.refused_so(NoNames, {"which": "wires"}, called, WORK, wires=thing)
+            self.refused_so(NoNames, {"which": "parts"}, called, WORK, parts=thing, order=0)
+            self.refused_so(NoNames, {"which": "parts"}, called, WORK, parts=thing, wires=["x", "y", "z"], order=[0, 1, 2])
+            self.refused_so(NoNames, {"which": "wires"}, led_looks, WORK, LOOKS, wires=thing)
+            self.refused_so(NoNames, {"which": "wires"}, led_looks, WORK, [], wires=thing)
         for thing in odd_things():
-            self.refused(NoNames, {"which": "wires"}, called, WORK, wires=["x", thing, "y"])
-            self.refused(NoNames, {"which": "parts"}, called, WORK, parts=["x", thing, "y"])
+            self.refused_so(NoNames, {"which": "wires"}, called, WORK, wires=["x", thing, "y"])
+            self.refused_so(NoNames, {"which": "parts"}, called, WORK, parts=["x", thing, "y"])
 
     def test_no_order(self):
         for thing in odd_things() + WRONG_ORDERS:
             if thing is None:
                 continue
-            self.refused(NoNames, {"which": "order"}, called, WORK, order=thing)
-            self.refused(NoNames, {"which": "order"}, called, WORK, wires=["x", "y", "z"], parts=["x", "y", "z"], order=thing)
-            self.refused(NoNames, {"which": "order"}, led_lot, WORK, (0, 1), order=thing)
-            self.refused(NoNames, {"which": "order"}, led_lot, WORK, (), order=thing)
+            self.refused_so(NoNames, {"which": "order"}, called, WORK, order=thing)
+            self.refused_so(NoNames, {"which": "order"}, called, WORK, wires=["x", "y", "z"], parts=["x", "y", "z"], order=thing)
+            self.refused_so(NoNames, {"which": "order"}, led_lot, WORK, (0, 1), order=thing)
+            self.refused_so(NoNames, {"which": "order"}, led_lot, WORK, (), order=thing)
         for thing in odd_things():
-            self.refused(NoNames, {"which": "order"}, called, WORK, order=[0, thing, 1])
-        self.refused(NoNames, {"which": "order"}, called, Work(WIRES), order=[0])
-        self.refused(NoNames, {"which": "parts"}, called, Work(WIRES), parts=["p"])
+            self.refused_so(NoNames, {"which": "order"}, called, WORK, order=[0, thing, 1])
+        self.refused_so(NoNames, {"which": "order"}, called, Work(WIRES), order=[0])
+        self.refused_so(NoNames, {"which": "parts"}, called, Work(WIRES), parts=["p"])
 
     def test_lots_and_looks_ahead_of_names(self):
         for thing in odd_things():
             for order in ([2, 1, 0], None, 0):
                 if thing.__class__ is not tuple:
-                    self.refused(NoLot, {"number": None}, led_lot, WORK, thing, order=order)
-                self.refused(NoLot, {"number": 1}, led_lot, WORK, (0, thing), order=order)
+                    self.refused_so(NoLot, {"number": None}, led_lot, WORK, thing, order=order)
+                self.refused_so(NoLot, {"number": 1}, led_lot, WORK, (0, thing), order=order)
             for wires in (["x", "y", "z"], None, 0):
                 if thing.__class__ is not list:
-                    self.refused(NoLook, {"number": None}, led_looks, WORK, thing, wires=wires)
-                self.refused(NoLook, {"number": 2}, led_looks, WORK, LOOKS[:2] + [thing, None], wires=wires)
-        self.refused(NoLot, {"number": 1}, led_lot, WORK, (1, 0), order=0)
-        self.refused(NoLook, {"number": 0}, led_looks, WORK, [("is", "x", 0)], wires=["x", "y", "z"])
+                    self.refused_so(NoLook, {"number": None}, led_looks, WORK, thing, wires=wires)
+                self.refused_so(NoLook, {"number": 2}, led_looks, WORK, LOOKS[:2] + [thing, None], wires=wires)
+        self.refused_so(NoLot, {"number": 1}, led_lot, WORK, (1, 0), order=0)
+        self.refused_so(NoLook, {"number": 0}, led_looks, WORK, [("is", "x", 0)], wires=["x", "y", "z"])
 
     def test_what_is_handed_in_stays_as_it_was(self):
         handed = [["b", "a", "c"], ["x", "y", "z"], [1, 2, 0], list(LOOKS)]

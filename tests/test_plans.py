@@ -10,7 +10,7 @@ from leastblame.errors import NoLook, NoWays, NoWires, NoWork, NoWorlds, TooMany
 from leastblame.plans import accounts, is_plan, mean_plan, worst_plan
 from leastblame.works import Work
 
-from helpers import WIRES, fields_of, odd_things, some_cases
+from helpers import WIRES, Refusing, odd_things, some_cases
 from papers import bent
 from planning import FOUR, ROW, ROW_PARTS, ROW_SEEN, ROW_WIRES, UNMET, WRONG_OPEN
 from planning import Asked, account_shares_slowly, accounts_slowly, is_told_fraction, odd_or_even, plain_like
@@ -302,7 +302,7 @@ class IsPlan(unittest.TestCase):
 
     def test_things_of_every_other_kind(self):
         wire, branches = BY_B[1:]
-        for thing in odd_things() + [list(BY_B), BY_B[:2], (BY_B,), BY_B + (0,), ROW, "Look", "did", ("done",), ("look",),
+        for thing in odd_things() + [(), [], list(BY_B), BY_B[:2], (BY_B,), BY_B + (0,), ROW, "Look", "did", ("done",), ("look",),
                                      ("look", "b"), ("done", [], []), ("Look", *BY_B[1:]), (b"look", *BY_B[1:])]:
             for bad in [thing, (thing, wire, branches), ("look", thing, branches), ("look", wire, thing),
                         ("look", wire, [thing, branches[1]]), ("look", wire, [branches[0], thing]),
@@ -346,13 +346,10 @@ def doors(looks, open_wires):
         lambda work: is_plan(work, looks, open_wires, None)]
 
 
-class Refused(unittest.TestCase):
+class Refused(Refusing, unittest.TestCase):
     def refused(self, error, fields, calls, work=ROW):
         for call in calls:
-            with self.assertRaises(error) as caught:
-                call(work)
-            self.assertIs(caught.exception.__class__, error)
-            self.assertEqual(fields_of(caught.exception), fields)
+            self.refused_so(error, fields, call, work)
 
     def test_no_work(self):
         for thing in odd_things() + [ROW_WIRES, Work, repr(ROW), (ROW,)]:

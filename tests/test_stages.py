@@ -12,7 +12,7 @@ from leastblame.stages import closed, lot_closed, lot_opened
 from leastblame.works import Work
 from leastblame.worlds import count_worlds
 
-from helpers import fields_of, holds, odd_things, some_looks, some_work, some_circuit
+from helpers import Refusing, holds, odd_things, some_circuit, some_looks, some_work
 from papers import least_slowly, lots_slowly
 
 # Three parts in a row, and one beside them.
@@ -226,13 +226,10 @@ WRONG = [(), ("x",), ("x", (0,), 0), ["x", (0,)], ("x", [0]), ("x", ()), ("x", (
          (None, (0,)), (0, (0,)), ((0,), "x"), "x0", b"x0", ("x", "0"), ("x", ("p",))]
 
 
-class Refused(unittest.TestCase):
+class Refused(Refusing, unittest.TestCase):
     def refused(self, error, fields, calls):
         for call in calls:
-            with self.assertRaises(error) as caught:
-                call()
-            self.assertIs(caught.exception.__class__, error)
-            self.assertEqual(fields_of(caught.exception), fields)
+            self.refused_so(error, fields, call)
 
     def doors(self, stages, work=WORK):
         """Each call, with whatever is behind the stages wrong."""
